@@ -1,0 +1,105 @@
+"""What several tests share: comparing by kind, wrong values for every place, and refusals in order."""
+
+import itertools
+import time
+import unittest
+
+from slitsheets.errors import InvalidMeasure, SheetError, TooMany
+
+
+def same(one, other):
+    """Whether two values are equal and of the same kinds all through; 1 is not True, a tuple is no list."""
+    if type(one) is not type(other):
+        return False
+    if isinstance(one, (list, tuple)):
+        return len(one) == len(other) and all(map(same, one, other))
+    if isinstance(one, dict):
+        return same(list(one.items()), list(other.items()))
+    if isinstance(one, SheetError):
+        return same(vars(one), vars(other))
+    return one == other
+
+
+def copied(value):
+    """A copy that shares nothing that could be changed."""
+    if isinstance(value, (list, tuple)):
+        return type(value)(copied(item) for item in value)
+    if isinstance(value, dict):
+        return {key: copied(item) for key, item in value.items()}
+    if isinstance(value, SheetError):
+        twin = type(value)()
+        vars(twin).update(copied(vars(value)))
+        return twin
+    return value
+
+
+def nested(depth):
+    """Lists, tuples and dictionaries within one another."""
+    value = 5
+    for layer in range(depth):
+        value = [[value], (value, None), {"a": value}][layer % 3]
+    return value
+
+
+def any_values():
+    """Values of every kind that may be handed in, none of them a whole number, a tuple of four or of three."""
+    return [
+        None, True, False, "", "5", "(0, 1, 1, -1)", [], [5], [None], [1, 1, 2], [0, 1, 1, -1],
+        (), (5,), (None,), ((0, 1, 1, -1),), {}, {"a": 5}, {5: [None]}, {0: 0, 1: 1, 2: 1, 3: -1},
+        SheetError(), InvalidMeasure(), InvalidMeasure(5), TooMany([(0, 1, 1, -1)]), nested(30),
+    ]
+
+
+def wrong_measures():
+    return any_values() + [4, 1, 0, -3, -4, -5, 6, 7, 10, 11, 18, 10 ** 29 + 2, 10 ** 29 + 3, -(10 ** 29),
+                           (5, 5, 5), (0, 1, 1, -1)]
+
+
+def wrong_numbers():
+    return any_values() + [(1, 1, 2), (0, 1, 1, -1)]
+
+
+class Case(unittest.TestCase):
+
+    def assert_same(self, told, meant):
+        self.assertTrue(same(told, meant), f"{told!r} is not {meant!r}, by value and kind")
+
+    def assert_refused(self, error, value, function, *arguments, **named):
+        """The call raises this very error, which bears this very value, and changes no argument."""
+        handed = [*arguments, *named.values()]
+        before = copied(handed)
+        with self.assertRaises(SheetError, msg=f"{function.__name__}{tuple(handed)!r}") as caught:
+            function(*arguments, **named)
+        self.assertIs(type(caught.exception), error, f"{function.__name__}{tuple(handed)!r}")
+        self.assertIs(caught.exception.value, value, f"{function.__name__}{tuple(handed)!r}")
+        self.assert_same(handed, before)
+
+    def assert_refusals(self, function, *places):
+        """Each place is (name, error, good values, wrong values): the first wrong one is refused,
+        alone and with good or wrong arguments behind it, by position and by name."""
+        for at, (_, error, _, wrongs) in enumerate(places):
+            ahead = [good[0] for _, _, good, _ in places[:at]]
+            behind = [[good[0], bad[0], bad[-1]] for _, _, good, bad in places[at + 1:]]
+            for wrong in wrongs:
+                for rest in itertools.product(*behind):
+                    arguments = [*ahead, wrong, *rest]
+                    self.assert_refused(error, wrong, function, *arguments)
+                names = [name for name, _, _, _ in places]
+                self.assert_refused(error, wrong, function, **dict(zip(names, arguments)))
+
+    def assert_taken(self, function, *places):
+        """The good values raise nothing, are not changed, and bring equal results twice, by position and name."""
+        names = [name for name, _, _, _ in places]
+        for arguments in itertools.product(*[good for _, _, good, _ in places]):
+            before = copied(arguments)
+            told = function(*arguments)
+            self.assert_same(arguments, before)
+            self.assert_same(function(*arguments), told)
+            self.assert_same(function(**dict(zip(names, arguments))), told)
+
+    def assert_within(self, seconds, function, *arguments):
+        """What a function returns, which takes it no longer than so many seconds."""
+        start = time.monotonic()
+        told = function(*arguments)
+        self.assertLess(time.monotonic() - start, seconds, function.__name__)
+        return told
