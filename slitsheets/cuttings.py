@@ -93,9 +93,9 @@ def _how_many_with(measure, e):
 
 
 def _lasts(measure):
-    """Return the items e that can stand in a cutting: as odd as the measure, their squares below it."""
-    greatest = isqrt(measure - 1)
-    return [e for e in range(-greatest, greatest + 1) if (measure - e) % 2 == 0]
+    """Return all items e that may stand in a cutting, and some with which there is none."""
+    root = isqrt(measure)
+    return list(range(-root, root + 1))
 
 
 def _middles(measure, e):

@@ -57,11 +57,10 @@ def root_side(measure, root):
     """Return -1, 0 or 1: whether a root number is below 0, stands for 0 or is above 0."""
     _check(measure, (root,))
     x, y, _ = root
-    whole, multiple = _side(x), _side(y)
-    if whole * multiple >= 0:
-        return _side(whole + multiple)
-    # Both parts pull apart: the one with the greater square decides.
-    return whole if x * x > measure * y * y else multiple
+    # The part with the greater square decides; both squares are equal only where both parts are 0.
+    if x * x > measure * y * y:
+        return _side(x)
+    return _side(y)
 
 
 def root_floor(measure, root):
@@ -132,4 +131,5 @@ def _floor_of_multiple(measure, times):
     square = measure * times * times
     if times >= 0:
         return isqrt(square)
+    # The least whole number that is not below the root of the square, with its sign changed.
     return -isqrt(square - 1) - 1

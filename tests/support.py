@@ -97,6 +97,14 @@ class Case(unittest.TestCase):
             self.assert_same(function(*arguments), told)
             self.assert_same(function(**dict(zip(names, arguments))), told)
 
+    def assert_judged_false(self, values, function, *ahead):
+        """The function says False of each value, by position and by name, and changes none."""
+        for value in values:
+            before = copied(value)
+            self.assert_same(function(*ahead, value), False)
+            self.assert_same(function(*ahead, value=value), False)
+            self.assert_same(value, before)
+
     def assert_within(self, seconds, function, *arguments):
         """What a function returns, which takes it no longer than so many seconds."""
         start = time.monotonic()

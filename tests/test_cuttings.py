@@ -50,8 +50,7 @@ class Judged(Case):
             self.assert_same(is_cutting((a, b, c, e)), meant)
 
     def test_is_cutting_takes_any_value(self):
-        for value in WRONG_CUTTINGS:
-            self.assert_same(is_cutting(value), False)
+        self.assert_judged_false(WRONG_CUTTINGS, is_cutting)
         self.assert_same(is_cutting(value=(0, 1, 1, -1)), True)
 
     def test_great_cuttings(self):

@@ -2,7 +2,7 @@
 
 from slitsheets.errors import InvalidMeasure
 from slitsheets.measures import factor, is_measure, whole_root
-from support import Case, any_values, wrong_measures
+from support import Case, wrong_measures
 
 MEASURE = ("measure", InvalidMeasure, [5, 8, 9, 12, 10 ** 11, 10 ** 12 - 4], wrong_measures())
 
@@ -32,8 +32,7 @@ class Measures(Case):
                          [True, True, False, False, False, True, False, True])
 
     def test_is_measure_takes_any_value(self):
-        for value in any_values() + [(5, 5, 5)]:
-            self.assert_same(is_measure(value), False)
+        self.assert_judged_false(wrong_measures(), is_measure)
         self.assert_same(is_measure(value=5), True)
 
     def test_wrong_measures_are_refused(self):

@@ -88,9 +88,9 @@ class Judged(Case):
         self.assert_same(is_root(10 ** 28, (GREAT, 0, 10)), True)
 
     def test_is_root_takes_any_value(self):
-        for value in WRONG_ROOTS:
-            self.assert_same(is_root(5, value), False)
-            self.assert_same(is_root(measure=5, value=value), False)
+        for measure in (5, 9, 10 ** 29 + 1):
+            self.assert_judged_false(WRONG_ROOTS, is_root, measure)
+        self.assert_same(is_root(measure=5, value=(1, 1, 2)), True)
         for value in [(1, 1, 2), (0, 1, 1), (0, -1, 3)]:
             self.assert_same([is_root(5, value), is_root(9, value)], [True, False])
 
