@@ -2,7 +2,7 @@
 
 from math import gcd, isqrt
 
-from slitsheets.errors import InvalidCutting, InvalidNumber, TooMany
+from slitsheets.errors import InvalidCutting, InvalidNumber, TooMany, Unlike
 from slitsheets.measures import check_measure
 from slitsheets.wholes import are_wholes, is_whole
 
@@ -26,6 +26,12 @@ def check_cutting(cutting):
         raise InvalidCutting(cutting)
 
 
+def check_two_cuttings(one, other):
+    """Raise InvalidCutting unless both values are cuttings, Unlike unless they have one measure."""
+    if measure_of(one) != measure_of(other):
+        raise Unlike(other)
+
+
 def measure_of(cutting):
     """Return the measure of a cutting."""
     check_cutting(cutting)
@@ -44,6 +50,11 @@ def cuttings(measure):
     many = how_many_cuttings(measure)
     if many > MOST_TOLD:
         raise TooMany(many)
+    return all_cuttings(measure)
+
+
+def all_cuttings(measure):
+    """Return the list of the cuttings of a measure, in order, however many there are."""
     return sorted(_gathered(measure))
 
 
@@ -66,10 +77,10 @@ def cutting_numbered(measure, number):
     check_measure(measure)
     if not is_whole(number) or number < 0:
         raise InvalidNumber(number)
-    gathered = sorted(_gathered(measure))
-    if number >= len(gathered):
+    told = all_cuttings(measure)
+    if number >= len(told):
         raise InvalidNumber(number)
-    return gathered[number]
+    return told[number]
 
 
 def next_cutting(cutting):
@@ -79,7 +90,7 @@ def next_cutting(cutting):
 
 
 def _gathered(measure):
-    """Return all cuttings of a measure, however many, in no order to rely on."""
+    """Return all cuttings of a measure, in no order to rely on."""
     return [
         (a, b, c, e)
         for e in _lasts(measure)

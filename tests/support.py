@@ -4,7 +4,7 @@ import itertools
 import time
 import unittest
 
-from slitsheets.errors import InvalidMeasure, SheetError, TooMany
+from slitsheets.errors import InvalidMeasure, SheetError, TooMany, Unlike
 
 
 def same(one, other):
@@ -59,12 +59,21 @@ def wrong_numbers():
     return any_values() + [(1, 1, 2), (0, 1, 1, -1)]
 
 
+WRONG_CUTTINGS = any_values() + [
+    0, 17, (0, 1, 1, 0), (0, 2, 2, -2), (0, 2, 1, 1), (0, 1, 1, 5), (1, 1, 1, -1), (2, 2, 2, -1), (-1, 2, 2, -1),
+    (0, 0, 1, -2), (0, 1, 0, 0), (0, -1, -1, -1), (0, -4, 1, -9), (0, 1, -1, -1), (0, 3, 6, -9), (2, 4, 6, -8),
+    (0, 1, 1), (0, 1, 1, -1, 0), [0, 1, 1, -1], [(0, 1, 1, -1)], ((0, 1, 1, -1),),
+    (False, 1, 1, -1), (0, True, 1, -1), (0, 1, True, -1), (0, 2, 1, False), (None, 1, 1, -1), (0, None, 1, -1),
+    (0, 1, None, -1), (0, 1, 1, None), ("0", 1, 1, -1), (0, [1], 1, -1), (0, 1, (1,), -1), (0, 1, 1, {}),
+    (0, 10 ** 29, 10 ** 29, 0), (0, 10 ** 29, 1, 10 ** 29 - 1)]
+
+
 class Case(unittest.TestCase):
 
     def assert_same(self, told, meant):
         self.assertTrue(same(told, meant), f"{told!r} is not {meant!r}, by value and kind")
 
-    def assert_refused(self, error, value, function, *arguments, **named):
+    def assert_refused(self, error, value, function, /, *arguments, **named):
         """The call raises this very error, which bears this very value, and changes no argument."""
         handed = [*arguments, *named.values()]
         before = copied(handed)
@@ -96,6 +105,14 @@ class Case(unittest.TestCase):
             self.assert_same(arguments, before)
             self.assert_same(function(*arguments), told)
             self.assert_same(function(**dict(zip(names, arguments))), told)
+
+    def assert_unlike(self, function, *behind):
+        """Of two cuttings with two measures the second one is refused, whatever stands behind."""
+        for one, other in (((0, 2, 1, -3), (0, 1, 1, -1)), ((0, 1, 1, -1), (1, 2, 2, -1)),
+                           ((0, 2, 1, -1), (0, 2, 1, 0)), ((0, 10 ** 29, 1, 1), (0, 10 ** 29, 1, 2)),
+                           ((0, 1, 1, -1), (0, 10 ** 29, 1, -5))):
+            self.assert_refused(Unlike, other, function, one, other, *behind)
+            self.assert_refused(Unlike, one, function, other, one, *behind)
 
     def assert_judged_false(self, values, function, *ahead):
         """The function says False of each value, by position and by name, and changes none."""

@@ -8,37 +8,12 @@ from slitsheets.cuttings import (
     next_cutting)
 from slitsheets.errors import InvalidCutting, InvalidMeasure, InvalidNumber, TooMany
 from slitsheets.measures import is_measure
-from support import Case, any_values, wrong_measures, wrong_numbers
+from plain import SEARCHED
+from support import WRONG_CUTTINGS, Case, wrong_measures, wrong_numbers
 
-WRONG_CUTTINGS = any_values() + [
-    0, 17, (0, 1, 1, 0), (0, 2, 2, -2), (0, 2, 1, 1), (0, 1, 1, 5), (1, 1, 1, -1), (2, 2, 2, -1), (-1, 2, 2, -1),
-    (0, 0, 1, -2), (0, 1, 0, 0), (0, -1, -1, -1), (0, -4, 1, -9), (0, 1, -1, -1), (0, 3, 6, -9), (2, 4, 6, -8),
-    (0, 1, 1), (0, 1, 1, -1, 0), [0, 1, 1, -1], [(0, 1, 1, -1)], ((0, 1, 1, -1),),
-    (False, 1, 1, -1), (0, True, 1, -1), (0, 1, True, -1), (0, 2, 1, False), (None, 1, 1, -1), (0, None, 1, -1),
-    (0, 1, None, -1), (0, 1, 1, None), ("0", 1, 1, -1), (0, [1], 1, -1), (0, 1, (1,), -1), (0, 1, 1, {}),
-    (0, 10 ** 29, 10 ** 29, 0), (0, 10 ** 29, 1, 10 ** 29 - 1)]
 CUTTINGS = [(0, 1, 1, -1), (0, 2, 1, 0), (1, 2, 2, -1), (0, 2, 1, -1), (0, 6, 1, 0), (2, 3, 3, -9)]
 CUTTING = ("cutting", InvalidCutting, CUTTINGS, WRONG_CUTTINGS)
 MEASURE = ("measure", InvalidMeasure, [17, 5, 8, 9, 1000, 2001], wrong_measures())
-
-
-def searched(greatest):
-    """All cuttings of all measures up to one, by trying all numbers."""
-    found = {measure: [] for measure in range(5, greatest + 1) if measure % 4 in (0, 1)}
-    side = greatest // 4
-    last = isqrt(greatest)
-    for b, c, e in product(range(1, side + 1), range(1, side + 1), range(-last, last + 1)):
-        measure = e * e + 4 * b * c
-        if measure <= greatest and c + e < b:
-            for a in range(min(b, c)):
-                common = gcd(b, c)
-                if a < common and not [n for n in range(2, common + 1)
-                                       if a % n == 0 and b % n == 0 and c % n == 0 and e % n == 0]:
-                    found[measure].append((a, b, c, e))
-    return {measure: sorted(told) for measure, told in found.items()}
-
-
-SEARCHED = searched(160)
 
 
 class Judged(Case):

@@ -14,6 +14,21 @@ INTERFACE = {
         "is_cutting(value)", "measure_of(cutting)", "how_many_cuttings(measure)", "cuttings(measure)",
         "how_many_with_last(measure, e)", "cutting_number(cutting)", "cutting_numbered(measure, number)",
         "next_cutting(cutting)"],
+    "slitsheets.deeds": [
+        "is_deed(cutting, value)", "how_many_deeds(cutting)", "deeds(cutting)", "done(cutting, deed)",
+        "back(cutting, deed)", "is_word(cutting, value)", "led(cutting, word)", "passed(cutting, word)",
+        "led_back(cutting, word)", "deeds_to(cutting, other)", "mirror(cutting)", "mirror_deed(cutting, deed)"],
+    "slitsheets.lots": [
+        "sign(cutting)", "joined(one, other)", "lots(measure)", "lot_sizes(measure)", "lot_of(cutting)",
+        "lot_number(cutting)", "lot_numbered(cutting, number)", "next_in_lot(cutting)", "is_lot(value)",
+        "is_closed(value)"],
+    "slitsheets.ways": [
+        "shortest_word(one, other)", "is_shortest(one, other, value)", "how_far(one, other)", "farthest(cutting)",
+        "how_many_far(cutting)", "how_many_words(one, other, length)", "word_numbered(one, other, length, number)",
+        "word_number(one, word)"],
+    "slitsheets.heart": [
+        "is_heart(value)", "how_many_heart(measure)", "heart_numbered(measure, number)", "heart_number(cutting)",
+        "heart_steps(cutting)", "heart_distance(cutting)", "word_to_heart(cutting)", "heart_lots(measure)"],
 }
 
 ERRORS = [

@@ -11,9 +11,9 @@ NODES = (
     ast.Module, ast.FunctionDef, ast.ClassDef, ast.arguments, ast.arg, ast.ImportFrom, ast.alias, ast.Return,
     ast.Assign, ast.AugAssign, ast.For, ast.While, ast.If, ast.Raise, ast.Expr, ast.BoolOp, ast.And, ast.Or,
     ast.BinOp, ast.Add, ast.Sub, ast.Mult, ast.FloorDiv, ast.Mod, ast.UnaryOp, ast.Not, ast.USub, ast.IfExp,
-    ast.ListComp, ast.comprehension, ast.Compare, ast.Eq, ast.NotEq, ast.Lt, ast.LtE, ast.Gt, ast.GtE, ast.Call,
-    ast.keyword, ast.Constant, ast.Attribute, ast.Subscript, ast.Name, ast.List, ast.Tuple, ast.Load, ast.Store,
-    ast.Break, ast.Continue, ast.Pass, ast.In, ast.NotIn, ast.Is, ast.IsNot, ast.Dict)
+    ast.ListComp, ast.DictComp, ast.comprehension, ast.Compare, ast.Eq, ast.NotEq, ast.Lt, ast.LtE, ast.Gt,
+    ast.GtE, ast.Call, ast.keyword, ast.Constant, ast.Attribute, ast.Subscript, ast.Name, ast.List, ast.Tuple,
+    ast.Load, ast.Store, ast.Break, ast.Continue, ast.Pass, ast.In, ast.NotIn, ast.Is, ast.IsNot, ast.Dict)
 BUILTINS = {
     "len", "range", "enumerate", "zip", "min", "max", "sum", "abs", "sorted", "reversed", "int", "str", "bool", "list",
     "tuple", "dict", "isinstance", "any", "all", "divmod", "ValueError"}
@@ -35,6 +35,12 @@ def bound_names(tree):
         elif isinstance(node, ast.Name) and isinstance(node.ctx, ast.Store):
             names.append(node.id)
     return names
+
+
+def top_names(tree):
+    """The names of the functions, classes and values that a file defines."""
+    names = [node.name for node in tree.body if isinstance(node, (ast.FunctionDef, ast.ClassDef))]
+    return names + [target.id for node in tree.body if isinstance(node, ast.Assign) for target in node.targets]
 
 
 def imports(tree):
@@ -95,7 +101,7 @@ class Language(unittest.TestCase):
                 package, _, module = node.module.partition(".")
                 self.assertEqual(package, "slitsheets", path.name)
                 needed[path.stem].append(module)
-                defined = [one.name for one in self.trees[FOLDER / (module + ".py")].body if hasattr(one, "name")]
+                defined = top_names(self.trees[FOLDER / (module + ".py")])
                 for alias in node.names:
                     self.assertIn(alias.name, defined, path.name)
                     self.assertIsNone(alias.asname, path.name)
@@ -106,7 +112,7 @@ class Language(unittest.TestCase):
 
     def test_names_are_plain_and_bound_to_one_thing(self):
         for path, tree in self.trees.items():
-            tops = [node.name for node in tree.body if hasattr(node, "name")]
+            tops = top_names(tree)
             tops += [alias.name for node in imports(tree) for alias in node.names]
             self.assertEqual(len(tops), len(set(tops)), path.name)
             for name in bound_names(tree):
