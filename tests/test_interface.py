@@ -29,6 +29,12 @@ INTERFACE = {
     "slitsheets.heart": [
         "is_heart(value)", "how_many_heart(measure)", "heart_numbered(measure, number)", "heart_number(cutting)",
         "heart_steps(cutting)", "heart_distance(cutting)", "word_to_heart(cutting)", "heart_lots(measure)"],
+    "slitsheets.roads": ["road(one, other)", "is_road(one, other, value)"],
+    "slitsheets.sheets": [
+        "square_side(cutting)", "corners(cutting)", "gluings(cutting)", "area(cutting)", "point_of(cutting, place)",
+        "is_point(cutting, value)", "piece_of(cutting, point)"],
+    "slitsheets.flights": ["flown(cutting, point, vector)", "corner_at(cutting, point, vector)"],
+    "slitsheets.paths": ["crossing(one, other)", "root_path(cutting, path)"],
 }
 
 ERRORS = [
