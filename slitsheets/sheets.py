@@ -1,6 +1,6 @@
 """Sheets: a square upon a slanted piece, their outline and how it is glued, the one name that each point has."""
 
-from slitsheets.cuttings import check_cutting, measure_of
+from slitsheets.cuttings import measure_of
 from slitsheets.errors import InvalidPoint
 from slitsheets.rootnumbers import is_root, root_less, root_number, root_plus, root_side
 

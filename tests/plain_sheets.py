@@ -29,6 +29,11 @@ class Surd:
             return -1
         return 1 if (self.x ** 2 > self.y ** 2 * self.measure) == (self.x > 0) else -1
 
+    def floor(self):
+        square = isqrt(self.y ** 2 * self.measure)
+        guess = (self.x + (square if self.y >= 0 else -square - 1)) // self.below
+        return guess + 1 if Surd(self.measure, guess + 1) <= self else guess
+
     def _other(self, other):
         if isinstance(other, Surd):
             return other

@@ -1,5 +1,6 @@
 """What several tests share: comparing by kind, wrong values for every place, and refusals in order."""
 
+import contextlib
 import itertools
 import time
 import unittest
@@ -20,6 +21,14 @@ def same(one, other):
     return one == other
 
 
+def shown(value):
+    """A value for a message; Python shows no numbers of very many figures."""
+    try:
+        return repr(value)
+    except ValueError:
+        return "a value with a very great number"
+
+
 def copied(value):
     """A copy that shares nothing that could be changed."""
     if isinstance(value, (list, tuple)):
@@ -31,6 +40,14 @@ def copied(value):
         vars(twin).update(copied(vars(value)))
         return twin
     return value
+
+
+def lists_in(value):
+    """All list objects within a value of lists and tuples, as often as they stand there."""
+    if not isinstance(value, (list, tuple)):
+        return []
+    found = [value] if isinstance(value, list) else []
+    return found + [one for item in value for one in lists_in(item)]
 
 
 def nested(depth):
@@ -71,7 +88,8 @@ WRONG_CUTTINGS = any_values() + [
 class Case(unittest.TestCase):
 
     def assert_same(self, told, meant):
-        self.assertTrue(same(told, meant), f"{told!r} is not {meant!r}, by value and kind")
+        if not same(told, meant):
+            self.fail(f"{shown(told)} is not {shown(meant)}, by value and kind")
 
     def assert_refused(self, error, value, function, /, *arguments, **named):
         """The call raises this very error, which bears this very value, and changes no argument."""
@@ -121,6 +139,28 @@ class Case(unittest.TestCase):
             self.assert_same(function(*ahead, value), False)
             self.assert_same(function(*ahead, value=value), False)
             self.assert_same(value, before)
+
+    def assert_own_lists(self, function, *arguments):
+        """No list in a result stands there twice, in an argument or in another result; what is told is told anew."""
+        told, again = function(*arguments), function(*arguments)
+        meant = copied(told)
+        lists = lists_in(told)
+        self.assertEqual(len({id(one) for one in lists}), len(lists), function.__name__)
+        others = {id(one) for one in lists_in(again) + lists_in(arguments)}
+        self.assertEqual({id(one) for one in lists} & others, set(), function.__name__)
+        for one in lists:
+            one.append(None)
+        self.assert_same(again, meant)
+        self.assert_same(function(*arguments), meant)
+
+    def assert_repeated(self, calls):
+        """Equal calls bring equal results, whatever other calls, also refused ones, lie between."""
+        first = [function(*arguments) for function, *arguments in calls]
+        for function, *arguments in reversed(calls):
+            function(*arguments)
+            with contextlib.suppress(SheetError):
+                function(None, *arguments[1:])
+        self.assert_same([function(*arguments) for function, *arguments in calls], first)
 
     def assert_within(self, seconds, function, *arguments):
         """What a function returns, which takes it no longer than so many seconds."""

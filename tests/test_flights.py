@@ -10,7 +10,7 @@ from slitsheets.rootnumbers import is_root, root_less, root_plus, root_side, roo
 from slitsheets.sheets import corners, is_point, point_of
 from plain import SEARCHED
 from plain_sheets import Sheet, Surd, less, plus
-from support import WRONG_CUTTINGS, Case, same
+from support import WRONG_CUTTINGS, Case
 from test_sheets import CORNER, LONG_CUTTINGS
 from vectors import (
     BENT, FLAT, NO_VECTORS, NOUGHT, OUTSIDE_BENT, POINTS_BENT, UNNAMED_BENT, VECTORS_17, WHOLE)
@@ -227,7 +227,4 @@ class Refused(FlightCase):
     def test_equal_calls_bring_equal_results_whatever_lies_between(self):
         calls = [(function, BENT, point, vector) for function in (flown, corner_at)
                  for point in POINTS_BENT[:4] for vector in VECTORS_17]
-        first = [function(*arguments) for function, *arguments in calls]
-        for function, *arguments in reversed(calls):
-            function(*arguments)
-        self.assertTrue(same(first, [function(*arguments) for function, *arguments in calls]))
+        self.assert_repeated(calls)

@@ -35,6 +35,21 @@ INTERFACE = {
         "is_point(cutting, value)", "piece_of(cutting, point)"],
     "slitsheets.flights": ["flown(cutting, point, vector)", "corner_at(cutting, point, vector)"],
     "slitsheets.paths": ["crossing(one, other)", "root_path(cutting, path)"],
+    "slitsheets.tables": [
+        "led_path(table, path)", "table_product(one, other)", "keeps_crossings(table)", "table_back(table)",
+        "deed_table(cutting, deed)", "word_table(cutting, word)", "shear_table(cutting, times)",
+        "back_shear(cutting, deed)"],
+    "slitsheets.roundwords": [
+        "round_numbers(cutting, word)", "round_kind(cutting, word)", "round_power(cutting, word, times)",
+        "round_order(cutting, word)"],
+    "slitsheets.bands": [
+        "path_vector(cutting, path)", "around(cutting, deed)", "band_areas(cutting, deed)",
+        "band_of(cutting, deed, point)", "change(cutting, deed)", "changed(cutting, deed, vector)"],
+    "slitsheets.floors": [
+        "is_floor(value)", "named(floor)", "sheared(floor)", "turned(floor)", "floor_led(floor, word)",
+        "how_many_floors(n)", "floors_of(n)", "bands(floor)", "cutting_of(floor)", "floor_with(cutting)",
+        "how_many_with(cutting)", "half_turn(floor)", "middles(floor)", "floors_joined(one, other)",
+        "floor_word(one, other)"],
 }
 
 ERRORS = [

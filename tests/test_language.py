@@ -6,7 +6,7 @@ from pathlib import Path
 
 FOLDER = Path(__file__).resolve().parent.parent / "slitsheets"
 FILES = sorted(path for path in FOLDER.rglob("*") if path.is_file() and path.parent.name != "__pycache__")
-LIBRARY = {"math": {"gcd", "isqrt"}}
+LIBRARY = {"math": {"gcd", "isqrt", "lcm"}}
 NODES = (
     ast.Module, ast.FunctionDef, ast.ClassDef, ast.arguments, ast.arg, ast.ImportFrom, ast.alias, ast.Return,
     ast.Assign, ast.AugAssign, ast.For, ast.While, ast.If, ast.Raise, ast.Expr, ast.BoolOp, ast.And, ast.Or,

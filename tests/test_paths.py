@@ -9,7 +9,7 @@ from slitsheets.errors import InvalidCutting, InvalidList
 from slitsheets.paths import crossing, root_path
 from plain import SEARCHED
 from plain_sheets import Surd
-from support import WRONG_CUTTINGS, Case, any_values, nested, same
+from support import WRONG_CUTTINGS, Case, any_values, nested
 from test_deeds import GREAT_CUTTINGS
 
 BASE = [[1, 0, 0, 0], [0, 1, 0, 0], [0, 0, 1, 0], [0, 0, 0, 1]]
@@ -127,9 +127,4 @@ class RootPath(Case):
     def test_equal_calls_bring_equal_results_whatever_lies_between(self):
         calls = [(crossing, [1, 2, 3, 4], [4, 3, 2, 1]), (root_path, (1, 2, 2, -1), [1, 2, 3, 4]),
                  (root_path, (0, 1, 1, -1), [1, 2, 3, 4])]
-        first = [function(*arguments) for function, *arguments in calls]
-        for function, *arguments in reversed(calls):
-            function(*arguments)
-            with self.assertRaises((InvalidList, InvalidCutting)):
-                function(None, *arguments[1:])
-        self.assertTrue(same(first, [function(*arguments) for function, *arguments in calls]))
+        self.assert_repeated(calls)

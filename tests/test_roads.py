@@ -9,7 +9,7 @@ from slitsheets.errors import InvalidCutting
 from slitsheets.heart import heart_numbered, how_many_heart
 from slitsheets.roads import is_road, road
 from plain import SEARCHED, distances, graph, measures, plain_deeds, plain_done
-from support import WRONG_CUTTINGS, Case, same
+from support import WRONG_CUTTINGS, Case
 from test_deeds import GREAT_CUTTINGS, WRONG_WORDS, great_deeds
 
 LOW, HIGH, BENT = (0, 2, 1, -3), (0, 4, 1, 1), (1, 2, 2, -1)
@@ -228,7 +228,4 @@ class Judged(RoadCase):
         great = [heart_numbered(10 ** 20, number) for number in (7, 10 ** 9)]
         calls = [(road, LOW, HIGH), (road, LOW, OTHER_SIGN), (road, (0, 2, 3, -6), (0, 15, 1, 0)), (road, *great),
                  (is_road, LOW, HIGH, [(0, 1)]), (is_road, LOW, BENT, [(0, 1)])]
-        first = [function(*arguments) for function, *arguments in calls]
-        for function, *arguments in reversed(calls):
-            function(*arguments)
-        self.assertTrue(same(first, [function(*arguments) for function, *arguments in calls]))
+        self.assert_repeated(calls)

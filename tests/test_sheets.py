@@ -8,7 +8,7 @@ from slitsheets.rootnumbers import root_plus, root_times
 from slitsheets.sheets import area, corners, gluings, is_point, piece_of, point_of, square_side
 from plain import SEARCHED
 from plain_sheets import Sheet, Surd, cross, less, plus
-from support import WRONG_CUTTINGS, Case, same
+from support import WRONG_CUTTINGS, Case
 from test_deeds import GREAT_CUTTINGS
 from vectors import BENT, FLAT, NO_VECTORS, NOUGHT, OUTSIDE_BENT, POINTS_BENT, UNNAMED_BENT, WHOLE
 
@@ -200,9 +200,4 @@ class Points(SheetCase):
     def test_equal_calls_bring_equal_results_whatever_lies_between(self):
         calls = [(corners, BENT), (gluings, WHOLE), (area, BENT), (square_side, FLAT), (is_point, BENT, CORNER),
                  (point_of, BENT, UNNAMED_BENT[3]), (piece_of, BENT, POINTS_BENT[4])]
-        first = [function(*arguments) for function, *arguments in calls]
-        for function, *arguments in reversed(calls):
-            function(*arguments)
-            with self.assertRaises(InvalidCutting):
-                function(None, *arguments[1:])
-        self.assertTrue(same(first, [function(*arguments) for function, *arguments in calls]))
+        self.assert_repeated(calls)
