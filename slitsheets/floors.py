@@ -64,7 +64,7 @@ def how_many_floors(n):
     rest = n
     prime = 2
     while rest > 1:
-        # What no lesser number divides any more and is no product is a prime itself.
+        # What no lesser number divides is a prime if it is less than the square of this one.
         if prime * prime > rest:
             prime = rest
         if rest % prime == 0:
@@ -78,7 +78,7 @@ def how_many_floors(n):
 def floors_of(n):
     """Return the list of the names of all floors of n squares, in order."""
     _check_many(n, MOST_LISTED)
-    # Words lead each floor to one of two bands; and to all with its cutting, as shearing alone does.
+    # Words lead each floor to one of two bands, and from there, by shearing alone, to all that have its cutting.
     found = []
     for cutting in cuttings(n * n):
         floor = _named(floor_with(cutting))
@@ -248,11 +248,12 @@ def _numbered_from(floor, start):
     order = [start]
     at = 0
     while at < len(order):
-        for other in (right[order[at]], up[order[at]]):
+        square = order[at]
+        for other in (right[square], up[square]):
             if other not in order:
                 order.append(other)
         at += 1
-    return ([order.index(right[square]) for square in order], [order.index(up[square]) for square in order])
+    return ([order.index(right[found]) for found in order], [order.index(up[found]) for found in order])
 
 
 def _all_led(floor):
@@ -260,7 +261,8 @@ def _all_led(floor):
     found = [floor]
     at = 0
     while at < len(found):
-        for other in (_named(_sheared(found[at])), _named(_turned(found[at]))):
+        here = found[at]
+        for other in (_named(_sheared(here)), _named(_turned(here))):
             if other not in found:
                 found.append(other)
         at += 1
@@ -287,8 +289,9 @@ def _row_of(right, square):
 def _bands(floor):
     """Return the list of the bands of a floor, each the list of its rows."""
     _, up = floor
-    found = [[row] for row in _rows(floor)]
-    for row in _rows(floor):
+    rows = _rows(floor)
+    found = [[one] for one in rows]
+    for row in rows:
         above = sorted([up[square] for square in row])
         # What lies above a row may be no row, or the row itself.
         joined = [band for band in found if row in band or above in band]
@@ -364,9 +367,10 @@ def _spread(floor, image):
     queue = [0]
     while len(queue) > 0:
         square = queue.pop()
-        for other, turned_there in ((right[square], left[half[square]]), (up[square], below[half[square]])):
+        turned_there = half[square]
+        for other, place in ((right[square], left[turned_there]), (up[square], below[turned_there])):
             if other not in half:
-                half[other] = turned_there
+                half[other] = place
                 queue.append(other)
     return [half[square] for square in range(len(right))]
 

@@ -47,6 +47,14 @@ def relabelled(floor, numbers):
     return tuple([numbers[side[back[square]]] for square in range(len(right))] for side in (right, up))
 
 
+def laid_of_stones(floor, wide, high):
+    """The floor with stones, each of so many squares side by side and above one another, instead of its squares."""
+    right, up = floor
+    places = [(stone, x, y) for stone in range(len(right)) for x in range(wide) for y in range(high)]
+    return ([places.index((stone, x + 1, y) if x + 1 < wide else (right[stone], 0, y)) for stone, x, y in places],
+            [places.index((stone, x, y + 1) if y + 1 < high else (up[stone], x, 0)) for stone, x, y in places])
+
+
 def plain_rounds(right, up):
     """Whether the pairs of the walks from square 0 back to it are all pairs; None unless walks lead everywhere."""
     ways = {0: (0, 0)}
@@ -224,13 +232,21 @@ class Judged(Case):
                 self.assert_same(is_floor((right, up)), plain_is_floor(right, up))
 
     def test_three_corner_squares_but_not_all_pairs(self):
-        # Floors of three squares laid of stones two squares wide, high, or both aslant.
-        wide = ([1, 2, 3, 0, 5, 4], [4, 5, 2, 3, 0, 1])
-        high = (wide[1], wide[0])
-        for right, up in (wide, high, plain_led(wide, "s"), plain_led(high, "s"), plain_led(high, "t")):
-            self.assertEqual(len([s for s in range(6) if up[right[s]] != right[up[s]]]), 3)
-            self.assertIs(plain_rounds(right, up), False)
-            self.assert_same(is_floor((right, up)), False)
+        rng = random.Random(41)
+        for n, wide, high in ((3, 2, 1), (3, 1, 2), (4, 2, 1), (4, 1, 2), (5, 2, 1), (5, 1, 2), (3, 3, 1), (3, 1, 3)):
+            for floor in some_floors(n, rng, 40):
+                stones = laid_of_stones(floor, wide, high)
+                for letter in rng.choices("st", k=rng.randrange(9)):
+                    stones = plain_led(stones, letter)
+                right, up = relabelled(stones, rng.sample(range(n * wide * high), n * wide * high))
+                self.assertEqual(len([s for s in right if up[right[s]] != right[up[s]]]), 3)
+                self.assertIs(plain_rounds(right, up), False)
+                self.assert_same(is_floor((right, up)), False)
+
+    def test_six_squares_with_the_lists_of_all_kinds(self):
+        for right in ([1, 2, 3, 4, 5, 0], [1, 2, 3, 0, 5, 4], [1, 2, 0, 4, 5, 3], [1, 0, 3, 2, 4, 5], [1, 2, 3, 4, 0, 5]):
+            for up in permutations(range(6)):
+                self.assert_same(is_floor((right, list(up))), plain_is_floor(right, up))
 
     def test_three_to_ten_squares(self):
         for n in range(2, 13):
